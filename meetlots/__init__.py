@@ -1,0 +1,1 @@
+"""Meetlots: lots that are closed under meeting, and rules that tell them."""

@@ -1,0 +1,115 @@
+"""Lots as masks: integers of which bit k is set where the lot has thing k.
+
+What goes over all lots of a size is told here by lists with an item for each
+mask, as this takes far fewer steps than comparing tuples.
+"""
+
+
+def mask_of(lot):
+    """The mask of a lot."""
+    mask = 0
+    for thing in lot:
+        mask = mask | (1 << thing)
+    return mask
+
+
+def lot_of(mask):
+    """The lot of a mask."""
+    return tuple([thing for thing in range(mask.bit_length()) if mask & (1 << thing)])
+
+
+def is_in(part, mask):
+    """Whether one lot is in another one."""
+    return part & mask == part
+
+
+def all_of(size):
+    """The mask of all things of a size."""
+    return (1 << size) - 1
+
+
+def ordered_masks(size):
+    """All masks of a size, in the order of their lots."""
+    found = []
+    level = [0]
+    while level:
+        found.extend(level)
+        level = [mask | (1 << thing) for mask in level for thing in range(mask.bit_length(), size)]
+    return found
+
+
+def mask_rules(rules):
+    """The rules with masks in the place of lots."""
+    return [(mask_of(ahead), mask_of(behind)) for ahead, behind in rules]
+
+
+def one_round(rules, mask):
+    """A mask joined with behind of all rules whose ahead is in it."""
+    grown = mask
+    for ahead, behind in rules:
+        if is_in(ahead, mask):
+            grown = grown | behind
+    return grown
+
+
+def close(rules, mask):
+    """The closure of a mask."""
+    grown = one_round(rules, mask)
+    while grown != mask:
+        mask = grown
+        grown = one_round(rules, mask)
+    return mask
+
+
+def holds(rules, ahead, behind):
+    """Whether a rule follows from rules."""
+    return is_in(behind, close(rules, ahead))
+
+
+def brought(size, rules):
+    """For each mask what all rules whose ahead is in it have behind, joined."""
+    found = [0] * (1 << size)
+    for ahead, behind in rules:
+        found[ahead] = found[ahead] | behind
+    for thing in range(size):
+        bit = 1 << thing
+        for mask in range(1 << size):
+            if mask & bit:
+                found[mask] = found[mask] | found[mask - bit]
+    return found
+
+
+def closures(size, rules):
+    """For each mask its closure."""
+    found = brought(size, rules)
+    # A greater lot has a greater mask, so its closure is known by then.
+    for mask in reversed(range(1 << size)):
+        grown = mask | found[mask]
+        found[mask] = mask if grown == mask else found[grown]
+    return found
+
+
+def least_meets(size, rows):
+    """For each mask the meet of all rows that have it."""
+    found = [all_of(size)] * (1 << size)
+    for row in rows:
+        found[row] = row
+    for thing in range(size):
+        bit = 1 << thing
+        for mask in range(1 << size):
+            if not mask & bit:
+                found[mask] = found[mask] & found[mask + bit]
+    return found
+
+
+def fixed_lots(size, found):
+    """The lots, in order, for which a list by masks tells themselves."""
+    return tuple([lot_of(mask) for mask in ordered_masks(size) if found[mask] == mask])
+
+
+def first_apart(size, found, other):
+    """The first lot that just one of two such lists tells for itself, None if there is none."""
+    for mask in ordered_masks(size):
+        if (found[mask] == mask) != (other[mask] == mask):
+            return lot_of(mask)
+    return None

@@ -1,0 +1,258 @@
+"""What a test can see of the rules for the files of the package.
+
+Each check returns a list of faults, (rule, line, words). Where a rule allows
+something that the package does without, the check is narrower than the rule.
+"""
+
+import ast
+import builtins
+import re
+
+LIBRARY = {
+    "heapq": ["heappush", "heappop", "heapify", "heapreplace", "heappushpop"],
+    "math": ["gcd", "lcm", "isqrt", "comb", "perm", "factorial"],
+}
+BUILTINS = """len range enumerate zip min max sum abs sorted reversed int str bool bytes list tuple dict set
+    isinstance ord repr any all divmod pow Exception ValueError TypeError KeyError IndexError LookupError
+    ZeroDivisionError super property iter next""".split()
+METHODS = """append clear copy count endswith extend find get index insert isalnum isalpha isdigit islower
+    isspace isupper items join keys ljust lower lstrip partition pop remove replace reverse rfind rjust
+    rpartition rsplit rstrip setdefault split splitlines startswith strip update upper values zfill bit_length
+    add discard""".split()
+BARRED = """register mro elements open input law version_info with_traceback add_note attrgetter breakpoint
+    builtins compile copyright credits delattr dir eval exec exit gc globals help id importlib license locals
+    methodcaller os quit vars type typing enum dataclass overload contextmanager namedtuple metaclass""".split()
+BARRED_BEGINNINGS = ("_wall", "_pe_", "_dcw_", "_enum_", "_cm_", "_twin_re_", "_lay_", "_law_", "_stub_", "_sre")
+DUNDERS = """__init__ __eq__ __ne__ __repr__ __str__ __len__ __call__ __iter__ __getitem__ __contains__
+    __lt__ __le__ __gt__ __ge__ __bool__""".split()
+ONCE = ("zip", "enumerate", "reversed", "range")
+TAKES_ONCE = ("list", "tuple", "dict", "sorted", "sum", "any", "all", "enumerate", "zip", "min", "max", "reversed")
+NODES = """Module FunctionDef ClassDef ImportFrom alias arguments arg Return Assign AugAssign For While If
+    Raise Try ExceptHandler Expr Break Continue Pass Delete BoolOp And Or BinOp Add Sub Mult FloorDiv Mod Pow
+    LShift RShift BitOr BitXor BitAnd UnaryOp Not USub Invert IfExp Lambda ListComp DictComp SetComp
+    comprehension Compare Eq NotEq Lt LtE Gt GtE Is IsNot In NotIn Call keyword JoinedStr FormattedValue Constant
+    Attribute Subscript Slice Starred Name Load Store Del List Tuple Dict Set""".split()
+
+
+def parents_of(tree):
+    return {child: node for node in ast.walk(tree) for child in ast.iter_child_nodes(node)}
+
+
+def functions_of(tree):
+    return [node for node in ast.walk(tree) if isinstance(node, ast.FunctionDef)]
+
+
+def text_faults(text):
+    """L10, L14: lengths and characters."""
+    faults = []
+    for at, line in enumerate(text.split("\n"), 1):
+        if len(line) > 120:
+            faults.append(("L10", at, "a long line"))
+        if any(not " " <= sign <= "~" for sign in line):
+            faults.append(("L14", at, "a sign that is not allowed"))
+    if len(text.splitlines()) > 399:
+        faults.append(("L10", 400, "a long file"))
+    if not text.endswith("\n"):
+        faults.append(("L10", 0, "no line feed at the end"))
+    return faults
+
+
+def size_faults(tree):
+    return [
+        ("L10", node.lineno, "a long function")
+        for node in functions_of(tree) if node.end_lineno - node.lineno >= 40
+    ]
+
+
+def node_faults(tree):
+    """L6, L7: kinds of statements and values."""
+    faults = []
+    for node in ast.walk(tree):
+        if type(node).__name__ not in NODES:
+            faults.append(("L6", getattr(node, "lineno", 0), type(node).__name__))
+        if getattr(node, "decorator_list", []):
+            names = [getattr(item, "id", None) for item in node.decorator_list]
+            if isinstance(node, ast.ClassDef) or names != ["property"]:
+                faults.append(("L4", node.lineno, "a decorator"))
+        if isinstance(node, ast.Constant) and isinstance(node.value, (float, complex)):
+            faults.append(("L7", node.lineno, "a float"))
+        if isinstance(node, ast.AugAssign) and isinstance(node.op, ast.Div):
+            faults.append(("L7", node.lineno, "/="))
+        if isinstance(node, (ast.Nonlocal, ast.Global)):
+            faults.append(("L6", node.lineno, "global"))
+    return faults
+
+
+def is_plain(node):
+    """Whether an expression at module level is a plain value."""
+    return all(
+        isinstance(item, (ast.Constant, ast.Tuple, ast.Dict, ast.BinOp, ast.UnaryOp, ast.operator, ast.unaryop,
+                          ast.Name, ast.Load))
+        for item in ast.walk(node)
+    )
+
+
+def module_faults(tree):
+    """L3, L15: what stands at module level, and each name once."""
+    faults, names, ahead = [], [], True
+    for at, node in enumerate(tree.body):
+        if isinstance(node, ast.Expr) and isinstance(node.value, ast.Constant) and at == 0:
+            continue
+        if isinstance(node, ast.ImportFrom):
+            names.extend(item.name for item in node.names)
+            if not ahead:
+                faults.append(("L2", node.lineno, "an import that is not at the top"))
+            continue
+        ahead = False
+        if isinstance(node, (ast.FunctionDef, ast.ClassDef)):
+            names.append(node.name)
+        elif isinstance(node, ast.Assign) and len(node.targets) == 1 and isinstance(node.targets[0], ast.Name) \
+                and is_plain(node.value):
+            names.append(node.targets[0].id)
+        else:
+            faults.append(("L3", node.lineno, "a statement at module level"))
+    faults += [("L15", 0, "bound twice: " + name) for name in sorted(set(names)) if names.count(name) > 1]
+    return faults
+
+
+def import_faults(tree, defined):
+    """L2, L16: imports; defined tells the names that each module of the package defines."""
+    faults = []
+    for node in ast.walk(tree):
+        if isinstance(node, ast.Import):
+            faults.append(("L16", node.lineno, "import of a module"))
+        if isinstance(node, ast.ImportFrom):
+            known = defined.get(node.module, LIBRARY.get(node.module, []))
+            for item in node.names:
+                if node.level or item.asname or item.name not in known:
+                    faults.append(("L16", node.lineno, f"import of {item.name}"))
+    used = {node.id for node in ast.walk(tree) if isinstance(node, ast.Name)}
+    for name in imported(tree):
+        if name not in used:
+            faults.append(("L2", 0, f"{name} is imported and not used"))
+    return faults
+
+
+def imported(tree):
+    return [item.name for node in ast.walk(tree) if isinstance(node, ast.ImportFrom) for item in node.names]
+
+
+def bound_names(tree):
+    """All names that are bound anywhere, with their lines."""
+    found = []
+    for node in ast.walk(tree):
+        if isinstance(node, (ast.FunctionDef, ast.ClassDef)):
+            found.append((node.name, node.lineno))
+        elif isinstance(node, ast.arg):
+            found.append((node.arg, node.lineno))
+        elif isinstance(node, ast.Name) and not isinstance(node.ctx, ast.Load):
+            found.append((node.id, node.lineno))
+        elif isinstance(node, ast.ExceptHandler) and node.name:
+            found.append((node.name, node.lineno))
+    return found
+
+
+def methods_of(tree):
+    return {
+        node.name for owner in ast.walk(tree) if isinstance(owner, ast.ClassDef)
+        for node in owner.body if isinstance(node, ast.FunctionDef)
+    }
+
+
+def name_faults(tree):
+    """L8, L12, L15, L17: names."""
+    faults = []
+    methods = methods_of(tree)
+    attributes = [(node.attr, node.lineno) for node in ast.walk(tree) if isinstance(node, ast.Attribute)]
+    for name, line in bound_names(tree) + attributes:
+        plain = re.fullmatch("_|_?[A-Za-z][A-Za-z0-9_]*", name)
+        if not (plain or name in DUNDERS) or name.startswith(BARRED_BEGINNINGS) or name in BARRED:
+            faults.append(("L17", line, name))
+    for name, line in bound_names(tree):
+        if hasattr(builtins, name) and name not in methods:
+            faults.append(("L15", line, f"{name} is a builtin"))
+    above = set(imported(tree)) | {node.name for node in ast.walk(tree) if isinstance(node, ast.ClassDef)}
+    for function in functions_of(tree):
+        for name, line in bound_names(function):
+            if name in above and name != function.name:
+                faults.append(("L15", line, f"{name} is an import or a class"))
+    for node in ast.walk(tree):
+        if isinstance(node, ast.Name) and isinstance(node.ctx, ast.Load):
+            if node.id == "_" or hasattr(builtins, node.id) and node.id not in BUILTINS:
+                faults.append(("L8", node.lineno, node.id))
+    return faults
+
+
+def string_faults(tree):
+    """L17, L27: what stands in strings that are no docstrings."""
+    documents = set()
+    for node in ast.walk(tree):
+        if isinstance(node, (ast.Module, ast.FunctionDef, ast.ClassDef)) and ast.get_docstring(node) is not None:
+            documents.add(node.body[0].value)
+    faults = []
+    for node in ast.walk(tree):
+        if isinstance(node, ast.Constant) and isinstance(node.value, str) and node not in documents:
+            words = re.findall("[A-Za-z_]+", node.value)
+            if "%" in node.value or "__" in node.value or node.value.endswith("._"):
+                faults.append(("L27", node.lineno, node.value))
+            if any(word in ("typing", "enum", "dataclass", "overload", "metaclass") for word in words):
+                faults.append(("L17", node.lineno, node.value))
+    return faults
+
+
+def call_faults(tree):
+    """L20, L22 to L25: calls, sets, what is iterated at once, and comparisons by is."""
+    faults = []
+    parents = parents_of(tree)
+    for node in ast.walk(tree):
+        parent = parents.get(node)
+        if isinstance(node, ast.Call) and isinstance(node.func, ast.Name):
+            faults += builtin_faults(node, parent)
+        if isinstance(node, ast.Call) and isinstance(node.func, ast.Attribute):
+            own = isinstance(node.func.value, ast.Name) and node.func.value.id == "self"
+            above = isinstance(node.func.value, ast.Call) and getattr(node.func.value.func, "id", "") == "super"
+            if node.func.attr not in METHODS and not own and not above:
+                faults.append(("L25", node.lineno, node.func.attr))
+            if node.keywords and not own and not above:
+                faults.append(("L25", node.lineno, "keywords"))
+        if isinstance(node, (ast.Set, ast.SetComp)) and not takes_set(parent):
+            faults.append(("L24", node.lineno, "a set"))
+        if isinstance(node, ast.Compare) and isinstance(node.ops[0], (ast.Is, ast.IsNot)):
+            other = node.comparators[0]
+            if not isinstance(other, ast.Constant) or not any(other.value is x for x in (None, True, False)):
+                faults.append(("L20", node.lineno, "is"))
+    return faults
+
+
+def takes_set(parent):
+    if isinstance(parent, ast.Call) and isinstance(parent.func, ast.Name):
+        return parent.func.id in ("len", "sorted") and not parent.keywords
+    return isinstance(parent, ast.Compare)
+
+
+def builtin_faults(node, parent):
+    name = node.func.id
+    faults = []
+    if name == "set" and not takes_set(parent):
+        faults.append(("L24", node.lineno, "a set"))
+    if name in ONCE:
+        looped = isinstance(parent, (ast.For, ast.comprehension)) and parent.iter is node
+        taken = isinstance(parent, ast.Call) and getattr(parent.func, "id", "") in TAKES_ONCE
+        if not looped and not taken:
+            faults.append(("L23", node.lineno, name))
+    allowed = {
+        "sorted": ["key", "reverse"], "min": ["key", "default"], "max": ["key", "default"], "sum": ["start"],
+        "enumerate": ["start"], "zip": ["strict"],
+    }
+    if name in BUILTINS and any(item.arg not in allowed.get(name, []) for item in node.keywords):
+        faults.append(("L22", node.lineno, "keywords of " + name))
+    return faults
+
+
+def file_faults(text, defined):
+    """All faults of the text of a file."""
+    tree = ast.parse(text)
+    faults = text_faults(text)
+    for check in (size_faults, node_faults, module_faults, name_faults, string_faults, call_faults):
+        faults += check(tree)
+    return faults + import_faults(tree, defined)
