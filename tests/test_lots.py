@@ -3,7 +3,10 @@
 import copy
 import unittest
 
+from meetlots.books import steps_hold
+from meetlots.errors import BadText
 from meetlots.lots import all_lots, book_error, in_order, is_lot, is_rule, join, meet, table_error, without
+from meetlots.texts import parse_book, parse_table
 from tests import brute
 from tests.values import DEEP, ODD
 
@@ -187,6 +190,10 @@ class UnchangedTest(unittest.TestCase):
             is_rule(3, value)
             book_error(value)
             table_error(value)
+            steps_hold((3, ()), (0,), 1, value)
+            for parse in (parse_book, parse_table):
+                with self.assertRaises(BadText):
+                    parse(value)
         self.assertEqual(values, kept)
 
 
