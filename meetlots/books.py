@@ -1,8 +1,8 @@
 """Closed lots of a book, and the rules that follow from it."""
 
-from meetlots.errors import Unfit
+from meetlots.errors import NotClosed, Unfit
 from meetlots.lots import is_integer
-from meetlots.masks import close, closures, first_apart, fixed_lots, holds, is_in
+from meetlots.masks import close, closures_of, first_apart, fixed_lots, holds, is_in
 from meetlots.masks import lot_of, mask_of, mask_rules, one_round
 
 
@@ -31,8 +31,15 @@ def rounds(book, lot):
 
 def closed_lots(book):
     """All closed lots of a book, in order."""
-    size, rules = book
-    return fixed_lots(size, closures(size, mask_rules(rules)))
+    return fixed_lots(book[0], closures_of(book))
+
+
+def closed_mask(closed, lot):
+    """The mask of a lot that has to be closed, by the closures of all lots."""
+    mask = mask_of(lot)
+    if closed[mask] != mask:
+        raise NotClosed(lot)
+    return mask
 
 
 def follows(book, rule):
@@ -117,8 +124,6 @@ def alike(book, other):
 
 def parting(book, other):
     """The first lot that is closed in just one of two books, None if they are alike."""
-    size, rules = book
-    other_size, other_rules = other
-    if size != other_size:
+    if book[0] != other[0]:
         raise Unfit()
-    return first_apart(size, closures(size, mask_rules(rules)), closures(size, mask_rules(other_rules)))
+    return first_apart(book[0], closures_of(book), closures_of(other))

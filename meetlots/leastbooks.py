@@ -1,9 +1,10 @@
 """Books with few rules: spare rules, the stem, and rules of which one round is enough."""
 
 from meetlots.books import parting
-from meetlots.errors import NotAlike
+from meetlots.bounds import MAX_RULES
+from meetlots.errors import NotAlike, TooMany
 from meetlots.lots import rules_in_order
-from meetlots.masks import brought, closures, holds, is_in, lot_of, mask_of, mask_rules, ordered_masks
+from meetlots.masks import brought, closures_of, holds, is_in, lot_of, mask_of, mask_rules, one_less, ordered_masks
 
 
 def _is_spare(rules, place):
@@ -55,15 +56,18 @@ def _has_closures(pairs, mask):
     return True
 
 
-def _near_pairs(book):
-    """For each nearly closed lot, in order, the pair of it and its closure."""
-    size, rules = book
-    closed = closures(size, mask_rules(rules))
+def near_pairs(size, closed):
+    """For each nearly closed lot, in order, the pair of it and its closure, by the closures of all lots."""
     pairs = []
     for mask in ordered_masks(size):
         if closed[mask] != mask and _has_closures(pairs, mask):
             pairs.append((mask, closed[mask]))
     return pairs
+
+
+def _near_pairs(book):
+    """For each lot nearly closed in a book, in order, the pair of it and its closure."""
+    return near_pairs(book[0], closures_of(book))
 
 
 def nearly_closed(book):
@@ -85,9 +89,17 @@ def swell(book, lot):
     return lot_of(_swollen(_near_pairs(book), mask_of(lot)))
 
 
+def stem_of(size, closed):
+    """The stem of the books of some closed lots, by the closures of all lots."""
+    rules = tuple([(lot_of(near), lot_of(whole - near)) for near, whole in near_pairs(size, closed)])
+    if len(rules) > MAX_RULES:
+        raise TooMany(MAX_RULES)
+    return (size, rules)
+
+
 def stem(book):
     """The book of the rules of the nearly closed lots."""
-    return (book[0], tuple([(lot_of(near), lot_of(closed - near)) for near, closed in _near_pairs(book)]))
+    return stem_of(book[0], closures_of(book))
 
 
 def fewest(book):
@@ -117,16 +129,15 @@ def _least_made(closed, mask):
     """The things of which a lot is a least maker, by the closures of all lots."""
     known = mask
     # A lot with fewer things closes over no more, so those with one thing less are enough.
-    for thing in lot_of(mask):
-        known = known | closed[mask - (1 << thing)]
+    for less in one_less(mask):
+        known = known | closed[less]
     return closed[mask] & ~known
 
 
 def direct(book):
     """The rules of the least makers, of which one round is enough."""
-    size, rules = book
-    closed = closures(size, mask_rules(rules))
-    made = [(mask, _least_made(closed, mask)) for mask in ordered_masks(size)]
+    closed = closures_of(book)
+    made = [(mask, _least_made(closed, mask)) for mask in ordered_masks(book[0])]
     return tuple([(lot_of(mask), lot_of(things)) for mask, things in made if things])
 
 

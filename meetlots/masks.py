@@ -18,6 +18,11 @@ def lot_of(mask):
     return tuple([thing for thing in range(mask.bit_length()) if mask & (1 << thing)])
 
 
+def lots_of(masks):
+    """The lots of some masks."""
+    return tuple([lot_of(mask) for mask in masks])
+
+
 def is_in(part, mask):
     """Whether one lot is in another one."""
     return part & mask == part
@@ -89,6 +94,12 @@ def closures(size, rules):
     return found
 
 
+def closures_of(book):
+    """For each mask its closure in a book."""
+    size, rules = book
+    return closures(size, mask_rules(rules))
+
+
 def least_meets(size, rows):
     """For each mask the meet of all rows that have it."""
     found = [all_of(size)] * (1 << size)
@@ -102,9 +113,20 @@ def least_meets(size, rows):
     return found
 
 
+def meets_of(table):
+    """For each mask the least meet of a table that has it."""
+    size, rows = table
+    return least_meets(size, [mask_of(row) for row in rows])
+
+
+def fixed_masks(size, found):
+    """The masks, in order, for which a list by masks tells themselves."""
+    return [mask for mask in ordered_masks(size) if found[mask] == mask]
+
+
 def fixed_lots(size, found):
     """The lots, in order, for which a list by masks tells themselves."""
-    return tuple([lot_of(mask) for mask in ordered_masks(size) if found[mask] == mask])
+    return lots_of(fixed_masks(size, found))
 
 
 def first_apart(size, found, other):
@@ -113,3 +135,43 @@ def first_apart(size, found, other):
         if (found[mask] == mask) != (other[mask] == mask):
             return lot_of(mask)
     return None
+
+
+def one_less(mask):
+    """The masks with one thing less than a mask, by this thing."""
+    return [mask - (1 << thing) for thing in lot_of(mask)]
+
+
+def one_more(size, mask):
+    """The masks with one thing more than a mask, by this thing."""
+    return [mask | (1 << thing) for thing in lot_of(all_of(size) - mask)]
+
+
+def least_told(size, told):
+    """The masks, in order, for which a list by masks tells so, and for no mask with one thing less."""
+    return [
+        mask for mask in ordered_masks(size)
+        if told[mask] and not any([told[less] for less in one_less(mask)])
+    ]
+
+
+def joins(first, rows):
+    """For each mask the join of a first one and of the rows at the places of its things."""
+    found = [first]
+    for row in rows:
+        found = found + [mask | row for mask in found]
+    return found
+
+
+def images(lead):
+    """For each mask the mask that a map leads it to."""
+    return joins(0, [1 << goal for goal in lead])
+
+
+def source_of(lead, mask):
+    """The mask of the things for which a map tells one of a mask."""
+    found = 0
+    for thing, goal in enumerate(lead):
+        if mask & (1 << goal):
+            found = found | (1 << thing)
+    return found

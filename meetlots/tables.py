@@ -2,18 +2,12 @@
 
 from meetlots.errors import Unfit
 from meetlots.lots import in_order, meet
-from meetlots.masks import first_apart, fixed_lots, is_in, least_meets, mask_of
-
-
-def _all_meets(table):
-    """For each mask the least meet of a table that has it."""
-    size, rows = table
-    return least_meets(size, [mask_of(row) for row in rows])
+from meetlots.masks import first_apart, fixed_lots, is_in, mask_of, meets_of
 
 
 def meets(table):
     """All meets of a table, in order."""
-    return fixed_lots(table[0], _all_meets(table))
+    return fixed_lots(table[0], meets_of(table))
 
 
 def meet_of(table, places):
@@ -79,4 +73,4 @@ def parting_meet(table, other):
     """The first lot that is a meet of just one of two tables, None if they are alike."""
     if table[0] != other[0]:
         raise Unfit()
-    return first_apart(table[0], _all_meets(table), _all_meets(other))
+    return first_apart(table[0], meets_of(table), meets_of(other))

@@ -74,10 +74,17 @@ def least(lots):
     return [lot for lot in lots if not any(other < lot for other in lots)]
 
 
-def nearly_closed(book):
+def greatest(lots):
+    return [lot for lot in lots if not any(lot < other for other in lots)]
+
+
+def lots_in_order(lots):
+    """Some lots, as sets of any kind, as tuples in order, each once."""
+    return tuple(sorted({as_lot(lot) for lot in lots}, key=lot_key))
+
+
+def nearly_closed_among(size, closed):
     """The nearly closed lots, by [C3]'s own words, as frozensets in order."""
-    size = book[0]
-    closed = closed_sets(book)
     found = []
     for lot in sets_of(size):
         if lot in closed:
@@ -85,6 +92,44 @@ def nearly_closed(book):
         if all(closure_among(size, closed, near) <= lot for near in found if near < lot):
             found.append(lot)
     return found
+
+
+def nearly_closed(book):
+    return nearly_closed_among(book[0], closed_sets(book))
+
+
+def stem_among(size, closed):
+    """The stem of the books of some closed lots, by [C4]'s own words."""
+    closed = [frozenset(lot) for lot in closed]
+    rules = [(as_lot(lot), as_lot(closure_among(size, closed, lot) - lot)) for lot in nearly_closed_among(size, closed)]
+    return (size, tuple(rules))
+
+
+def irreducible_among(size, closed):
+    """The lots of a family that are not the meet of the greater ones, in order, by [E1]'s own words."""
+    closed = [frozenset(lot) for lot in closed]
+    return lots_in_order(
+        lot for lot in closed if meet_of_sets(size, [other for other in closed if lot < other]) != lot
+    )
+
+
+def meets_among(size, lots):
+    """All meets of some lots, of none too, as frozensets."""
+    found = {frozenset(range(size))}
+    for lot in lots:
+        found |= {other & frozenset(lot) for other in found}
+    return found
+
+
+def hitting(size, lots):
+    """The least lots that hit some lots, by [E5]'s own words."""
+    return lots_in_order(least([lot for lot in sets_of(size) if all(lot & frozenset(other) for other in lots)]))
+
+
+def makers_among(size, closed, lot):
+    """The makers of a lot, by [F1]'s own words."""
+    whole = closure_among(size, closed, lot)
+    return lots_in_order(least([other for other in sets_of(size) if closure_among(size, closed, other) == whole]))
 
 
 def swell(book, lot):
@@ -129,11 +174,7 @@ def one_round(rules, lot):
 
 def meets(table):
     """The meets of all choices of rows."""
-    size, rows = table
-    found = {frozenset(range(size))}
-    for row in rows:
-        found |= {lot & frozenset(row) for lot in found}
-    return sorted((as_lot(lot) for lot in found), key=lot_key)
+    return sorted((as_lot(lot) for lot in meets_among(*table)), key=lot_key)
 
 
 def families(size):

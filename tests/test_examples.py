@@ -54,7 +54,7 @@ class ExamplesTest(unittest.TestCase):
                     else:
                         self.assertEqual(told(line, names), result)
                         checked += 1
-        self.assertEqual(checked, 23)
+        self.assertEqual(checked, 49)
 
 
 if __name__ == "__main__":
