@@ -65,14 +65,14 @@ def near_pairs(size, closed):
     return pairs
 
 
-def _near_pairs(book):
+def book_pairs(book):
     """For each lot nearly closed in a book, in order, the pair of it and its closure."""
     return near_pairs(book[0], closures_of(book))
 
 
 def nearly_closed(book):
     """All nearly closed lots, in order."""
-    return tuple([lot_of(pair[0]) for pair in _near_pairs(book)])
+    return tuple([lot_of(pair[0]) for pair in book_pairs(book)])
 
 
 def _swollen(pairs, mask):
@@ -86,7 +86,7 @@ def _swollen(pairs, mask):
 
 def swell(book, lot):
     """The least lot over a lot that has the closures of the nearly closed lots in it but itself."""
-    return lot_of(_swollen(_near_pairs(book), mask_of(lot)))
+    return lot_of(_swollen(book_pairs(book), mask_of(lot)))
 
 
 def stem_of(size, closed):
@@ -104,7 +104,7 @@ def stem(book):
 
 def fewest(book):
     """How many rules an alike book has at least."""
-    return len(_near_pairs(book))
+    return len(book_pairs(book))
 
 
 def _owned(pairs, rules, near):
@@ -120,7 +120,7 @@ def owners(book, other):
     lot = parting(book, other)
     if lot is not None:
         raise NotAlike(lot)
-    pairs = _near_pairs(book)
+    pairs = book_pairs(book)
     rules = mask_rules(other[1])
     return tuple([_owned(pairs, rules, pair[0]) for pair in pairs])
 

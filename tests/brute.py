@@ -4,7 +4,7 @@ Nothing of the package is used here: lots are frozensets, and no step is saved.
 """
 
 import random
-from itertools import combinations
+from itertools import combinations, permutations
 
 
 def tuples_of(size):
@@ -195,6 +195,37 @@ def families(size):
                     following.append(family & mask)
         level = following
     return [(size, book) for book in found.values()]
+
+
+def is_learning(size, closed):
+    """Whether the empty lot is closed and no two things bring each other, by [H1]'s own words."""
+    if frozenset() not in closed:
+        return False
+    return not any(
+        closure_among(size, closed, lot | {x}) == closure_among(size, closed, lot | {y})
+        for lot in closed for x, y in combinations([k for k in range(size) if k not in lot], 2)
+    )
+
+
+def orders_among(size, closed):
+    """The orders of a learning book, by [H4]'s own words."""
+    return tuple(
+        order for order in permutations(range(size))
+        if all(frozenset(order[k:]) in closed for k in range(size))
+    )
+
+
+def random_learning_books(seed, count, sizes=(2, 3, 4, 5), most_orders=4):
+    """Books of the meets of tails of some rows of all things; by [H5] they are learning."""
+    chance = random.Random(seed)
+    books = []
+    while len(books) < count:
+        size = chance.choice(sizes)
+        rows = [chance.sample(range(size), size) for _ in range(chance.randint(1, most_orders))]
+        book = stem_among(size, meets_among(size, [row[k:] for row in rows for k in range(size + 1)]))
+        if len(book[1]) <= 60:
+            books.append(book)
+    return books
 
 
 def random_lot(chance, size, most):

@@ -54,7 +54,7 @@ class ExamplesTest(unittest.TestCase):
                     else:
                         self.assertEqual(told(line, names), result)
                         checked += 1
-        self.assertEqual(checked, 49)
+        self.assertEqual(checked, 64)
 
 
 if __name__ == "__main__":

@@ -70,6 +70,19 @@ FUNCTIONS = {
         "rough_rule": ["book", "other", "lead"], "pulled": ["other", "lead"],
         "pushed": ["book", "other_size", "lead"],
     },
+    "renames": {
+        "renamed": ["book", "naming"], "renaming": ["book", "other"], "sames": ["book"], "normal": ["book"],
+    },
+    "singles": {
+        "is_single": ["book"], "apart": ["book"], "reach": ["book"], "reach_error": ["size", "value"],
+        "of_reach": ["size", "value"], "loosened": ["book"],
+    },
+    "learning": {
+        "is_learning": ["book"], "clash": ["book"], "ends": ["book", "lot"], "is_order": ["book", "value"],
+        "order_count": ["book"], "orders": ["book"], "nth_order": ["book", "place"],
+        "order_place": ["book", "order"], "ways": ["book", "thing"],
+    },
+    "rings": {"rings": ["book"], "book_of_rings": ["size", "rings"], "ring_error": ["size", "value"]},
 }
 
 BOOK = (3, (((0,), (1,)), ((1,), (2,))))
@@ -132,6 +145,20 @@ BY_NAME = [
     ("maps", "rough_rule", {"book": BOOK, "other": (4, ()), "lead": (3, 1, 3)}),
     ("maps", "pulled", {"other": BOOK, "lead": (2, 0)}),
     ("maps", "pushed", {"book": BOOK, "other_size": 4, "lead": (3, 1, 3)}),
+    ("renames", "renamed", {"book": BOOK, "naming": (2, 0, 1)}),
+    ("renames", "renaming", {"book": BOOK, "other": (3, (((2,), (0,)), ((0,), (1,))))}),
+    ("renames", "sames", {"book": BOOK}), ("renames", "normal", {"book": BOOK}),
+    ("singles", "is_single", {"book": BOOK}), ("singles", "apart", {"book": (3, (((0, 1), (2,)),))}),
+    ("singles", "reach", {"book": BOOK}), ("singles", "reach_error", {"size": 1, "value": ((), ((),))}),
+    ("singles", "of_reach", {"size": 2, "value": ((), ((0, 1), (1,)))}), ("singles", "loosened", {"book": BOOK}),
+    ("learning", "is_learning", {"book": BOOK}), ("learning", "clash", {"book": (2, (((0,), (1,)), ((1,), (0,))))}),
+    ("learning", "ends", {"book": BOOK, "lot": (1, 2)}), ("learning", "is_order", {"book": BOOK, "value": (0, 1, 2)}),
+    ("learning", "order_count", {"book": BOOK}), ("learning", "orders", {"book": (3, (((0,), (2,)),))}),
+    ("learning", "nth_order", {"book": (3, (((0,), (2,)),)), "place": 1}),
+    ("learning", "order_place", {"book": (3, (((0,), (2,)),)), "order": (0, 2, 1)}),
+    ("learning", "ways", {"book": BOOK, "thing": 2}),
+    ("rings", "rings", {"book": BOOK}), ("rings", "book_of_rings", {"size": 3, "rings": ((2, (0, 1)),)}),
+    ("rings", "ring_error", {"size": 3, "value": ((2, (0,)), (2, (0, 1)))}),
 ]
 
 
