@@ -42,19 +42,33 @@ def told(line, names):
         return told_error(error)
 
 
+def readme_lines():
+    with open(os.path.join(HERE, "..", "README.md"), encoding="ascii") as lines:
+        text = lines.read().split("\n")
+    first = [place for place, line in enumerate(text) if line.startswith("    >>> ")]
+    return text[first[0]:first[-1] + 2]
+
+
 class ExamplesTest(unittest.TestCase):
+    def check(self, lines, names):
+        """Runs all lines, and tells how many of them say what comes of them."""
+        checked = 0
+        for line, result in pairs_of(lines):
+            with self.subTest(line=line):
+                if result is None:
+                    exec(line, names)
+                else:
+                    self.assertEqual(told(line, names), result)
+                    checked += 1
+        return checked
+
     def test_each_example(self):
         names = {}
-        checked = 0
-        for point, lines in example_blocks().items():
-            for line, result in pairs_of(lines):
-                with self.subTest(point=point, line=line):
-                    if result is None:
-                        exec(line, names)
-                    else:
-                        self.assertEqual(told(line, names), result)
-                        checked += 1
-        self.assertEqual(checked, 64)
+        checked = [self.check(lines, names) for lines in example_blocks().values()]
+        self.assertEqual(sum(checked), 64)
+
+    def test_each_example_of_the_readme(self):
+        self.assertEqual(self.check(readme_lines(), {}), 7)
 
 
 if __name__ == "__main__":
