@@ -4,8 +4,8 @@ from meetlots.books import closed_mask
 from meetlots.bounds import MAX_ORDERS
 from meetlots.errors import NotLearning, NotOrder, TooFar, TooMany
 from meetlots.lots import in_order, without
-from meetlots.maps import is_map
-from meetlots.masks import all_of, closures_of, fixed_masks, lot_of, one_less, one_more
+from meetlots.maps import has_each_once
+from meetlots.masks import all_of, closures_of, end_pairs, fixed_masks, lot_of, one_less, one_more
 from meetlots.turns import greatest_without
 
 
@@ -54,16 +54,17 @@ def ends(book, lot):
     """The things of a closed lot without each of which alone it is closed, too."""
     closed = closures_of(book)
     mask = closed_mask(closed, lot)
-    return tuple([thing for thing, less in zip(lot, one_less(mask)) if closed[less] == less])
+    return tuple([thing for thing, _ in end_pairs(closed, mask)])
 
 
 def is_order(book, value):
     """Whether a value is an order of a learning book."""
-    closed = learned(book)
-    size = book[0]
-    if not is_map(size, size, value) or len(set(value)) != size:
-        return False
-    return _first_open(closed, value) is None
+    return keeps_order(book[0], learned(book), value)
+
+
+def keeps_order(size, closed, value):
+    """Whether a value is an order, by the closures of all lots of a size."""
+    return has_each_once(size, value) and _first_open(closed, value) is None
 
 
 def _first_open(closed, order):

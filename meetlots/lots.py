@@ -9,6 +9,11 @@ def is_integer(value):
     return isinstance(value, int) and not isinstance(value, bool)
 
 
+def is_thing(size, value):
+    """Whether a value is a thing of a size."""
+    return is_integer(value) and 0 <= value < size
+
+
 def is_lot(size, value):
     """Whether a value is a lot of a size."""
     if not isinstance(value, tuple):

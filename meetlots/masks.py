@@ -147,6 +147,11 @@ def one_more(size, mask):
     return [mask | (1 << thing) for thing in lot_of(all_of(size) - mask)]
 
 
+def end_pairs(closed, mask):
+    """For each end of a closed mask the pair of it and of what is left, by the closures of all lots."""
+    return [(thing, less) for thing, less in zip(lot_of(mask), one_less(mask)) if closed[less] == less]
+
+
 def least_told(size, told):
     """The masks, in order, for which a list by masks tells so, and for no mask with one thing less."""
     return [
@@ -166,6 +171,21 @@ def joins(first, rows):
 def images(lead):
     """For each mask the mask that a map leads it to."""
     return joins(0, [1 << goal for goal in lead])
+
+
+def parts_of(mask):
+    """All masks that are in a mask, in the order of their lots."""
+    lot = lot_of(mask)
+    found = images(lot)
+    return [found[part] for part in ordered_masks(len(lot))]
+
+
+def sums(amounts):
+    """For each mask the sum of the amounts of its things."""
+    found = [0]
+    for amount in amounts:
+        found = found + [done + amount for done in found]
+    return found
 
 
 def source_of(lead, mask):

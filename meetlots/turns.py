@@ -17,9 +17,14 @@ def _meet_above(size, closed, mask):
     return found
 
 
+def irreducible_masks(size, closed):
+    """The masks of the irreducible lots, in order, by the closures of all lots."""
+    return [mask for mask in fixed_masks(size, closed) if _meet_above(size, closed, mask) != mask]
+
+
 def _least_rows(size, closed):
     """The table of the irreducible lots, by the closures of all lots."""
-    rows = lots_of([mask for mask in fixed_masks(size, closed) if _meet_above(size, closed, mask) != mask])
+    rows = lots_of(irreducible_masks(size, closed))
     if len(rows) > MAX_ROWS:
         raise TooMany(MAX_ROWS)
     return (size, rows)

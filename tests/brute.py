@@ -228,6 +228,30 @@ def random_learning_books(seed, count, sizes=(2, 3, 4, 5), most_orders=4):
     return books
 
 
+def learning_books(seed, count):
+    """All learning books of three things, the least ones, and some at random."""
+    found = [book for book in families(3) if is_learning(3, closed_sets(book))]
+    return found + [(0, ()), (1, ()), (2, ()), (2, (((0,), (1,)),))] + random_learning_books(seed, count)
+
+
+def not_learning_books():
+    """Books that are not learning, the empty lot closed in them or not."""
+    return [
+        (1, (((), (0,)),)), (2, (((), (1,)),)), (10, (((), (4,)),)), (1, (((), (0,)),) * 60),
+        (2, (((0,), (1,)), ((1,), (0,)))), (4, (((0,), (1,)), ((1, 2), (3,)), ((3,), (0,)))),
+    ]
+
+
+def widest(lots):
+    """How many of some lots there are at most of which none is in another."""
+    lots = [frozenset(lot) for lot in lots]
+    apart = [0]
+    for place, lot in enumerate(lots):
+        alike = sum(1 << k for k, other in enumerate(lots[:place]) if lot <= other or other <= lot)
+        apart += [chosen | (1 << place) for chosen in apart if not chosen & alike]
+    return max(bin(chosen).count("1") for chosen in apart)
+
+
 def random_lot(chance, size, most):
     return as_lot(chance.sample(range(size), chance.randint(0, min(size, most))))
 

@@ -83,9 +83,30 @@ FUNCTIONS = {
         "order_place": ["book", "order"], "ways": ["book", "thing"],
     },
     "rings": {"rings": ["book"], "book_of_rings": ["size", "rings"], "ring_error": ["size", "value"]},
+    "spreads": {
+        "spread": ["book"], "spread_holds": ["book", "value"], "fewest_orders": ["book"],
+        "orders_hold": ["book", "value"], "made_of_orders": ["size", "orders"],
+    },
+    "hulls": {
+        "on_line": ["places"], "in_ways": ["size", "edges"], "in_order_of": ["size", "pairs"],
+        "below": ["size", "pairs"], "on_plane": ["points"],
+    },
+    "numbers": {
+        "greatest_free": ["book"], "helly_lots": ["book"], "helly_holds": ["book", "value"],
+        "few_apart": ["book", "lots"], "carried": ["book", "lot", "thing"], "few_makers": ["book"],
+        "parted": ["book", "lot"], "parted_holds": ["book", "lot", "value"], "greatest_whole": ["book"],
+        "numbers": ["book"],
+    },
+    "takings": {
+        "takings": ["book", "lot", "most"], "heap": ["book", "lot", "most"], "heaps": ["book", "most"],
+        "right_takings": ["book", "lot", "most"], "sum_heap": ["stands"], "right_in_sum": ["stands"],
+        "prize_turns": ["book", "lot", "thing"], "right_ends": ["book", "lot", "thing"],
+        "prize_play": ["book", "lot", "thing"],
+    },
 }
 
 BOOK = (3, (((0,), (1,)), ((1,), (2,))))
+LINE = (3, (((0, 2), (1,)),))
 TABLE = (3, ((0, 1), (1, 2), (1,)))
 
 BY_NAME = [
@@ -159,6 +180,29 @@ BY_NAME = [
     ("learning", "ways", {"book": BOOK, "thing": 2}),
     ("rings", "rings", {"book": BOOK}), ("rings", "book_of_rings", {"size": 3, "rings": ((2, (0, 1)),)}),
     ("rings", "ring_error", {"size": 3, "value": ((2, (0,)), (2, (0, 1)))}),
+    ("spreads", "spread", {"book": LINE}), ("spreads", "spread_holds", {"book": LINE, "value": ((0,), (1, 2))}),
+    ("spreads", "fewest_orders", {"book": LINE}),
+    ("spreads", "orders_hold", {"book": LINE, "value": ((0, 1, 2), (2, 1, 0))}),
+    ("spreads", "made_of_orders", {"size": 3, "orders": ((0, 1, 2), (2, 1, 0))}),
+    ("hulls", "on_line", {"places": (5, 1, 3)}), ("hulls", "in_ways", {"size": 3, "edges": ((0, 1), (2, 1))}),
+    ("hulls", "in_order_of", {"size": 3, "pairs": ((0, 1), (1, 2))}),
+    ("hulls", "below", {"size": 3, "pairs": ((0, 1), (1, 2))}),
+    ("hulls", "on_plane", {"points": ((0, 0), (2, 2), (1, 1))}),
+    ("numbers", "greatest_free", {"book": LINE}), ("numbers", "helly_lots", {"book": LINE}),
+    ("numbers", "helly_holds", {"book": LINE, "value": ((0,), (1, 2))}),
+    ("numbers", "few_apart", {"book": LINE, "lots": ((0, 1), (0,), (1, 2))}),
+    ("numbers", "carried", {"book": LINE, "lot": (0, 2), "thing": 1}), ("numbers", "few_makers", {"book": LINE}),
+    ("numbers", "parted", {"book": LINE, "lot": (0, 1, 2)}),
+    ("numbers", "parted_holds", {"book": LINE, "lot": (0, 1, 2), "value": ((0, 2), (1,), 1)}),
+    ("numbers", "greatest_whole", {"book": LINE}), ("numbers", "numbers", {"book": LINE}),
+    ("takings", "takings", {"book": BOOK, "lot": (1, 2), "most": 1}),
+    ("takings", "heap", {"book": BOOK, "lot": (1, 2), "most": 1}), ("takings", "heaps", {"book": BOOK, "most": 2}),
+    ("takings", "right_takings", {"book": BOOK, "lot": (1, 2), "most": 2}),
+    ("takings", "sum_heap", {"stands": ((BOOK, (1, 2), 2), (BOOK, (2,), 1))}),
+    ("takings", "right_in_sum", {"stands": ((BOOK, (1, 2), 2), (BOOK, (2,), 1))}),
+    ("takings", "prize_turns", {"book": BOOK, "lot": (1, 2), "thing": 2}),
+    ("takings", "right_ends", {"book": BOOK, "lot": (1, 2), "thing": 2}),
+    ("takings", "prize_play", {"book": BOOK, "lot": (1, 2), "thing": 2}),
 ]
 
 

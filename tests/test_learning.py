@@ -21,8 +21,7 @@ def many_books():
 
 
 def learning_books():
-    found = [book for book in brute.families(3) if is_learning(book)]
-    return found + [(0, ()), (1, ()), (2, (((0,), (1,)),))] + brute.random_learning_books(112, 40)
+    return brute.learning_books(112, 40)
 
 
 def fence(size):
