@@ -1,7 +1,7 @@
 """Closed lots of a book, and the rules that follow from it."""
 
 from meetlots.errors import NotClosed, Unfit
-from meetlots.lots import is_integer
+from meetlots.lots import is_below
 from meetlots.masks import close, closures_of, first_apart, fixed_lots, holds, is_in
 from meetlots.masks import lot_of, mask_of, mask_rules, one_round
 
@@ -104,7 +104,7 @@ def _are_places(many, value):
     """Whether a value is a tuple of places below a number, none twice."""
     if not isinstance(value, tuple):
         return False
-    if any([not is_integer(item) or not 0 <= item < many for item in value]):
+    if any([not is_below(many, item) for item in value]):
         return False
     return len(set(value)) == len(value)
 

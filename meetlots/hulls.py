@@ -32,7 +32,7 @@ def on_line(places):
 
 
 def _way_lengths(size, edges):
-    """For each two things along how many edges a shortest way goes; the size or more if there is no way."""
+    """For each two things along how many edges a shortest way goes; the size if there is no way."""
     found = [[0 if x == y else size for y in range(size)] for x in range(size)]
     for x, y in edges:
         found[x][y] = 1
@@ -47,9 +47,8 @@ def _way_lengths(size, edges):
 def _on_ways(lengths, low, high):
     """The things on the shortest ways between two others."""
     whole = lengths[low][high]
-    if whole >= len(lengths):
-        return ()
     inner = [thing for thing in range(len(lengths)) if thing not in (low, high)]
+    # Where there is no way, any sum is greater than the size, which stands for it.
     return tuple([thing for thing in inner if lengths[low][thing] + lengths[thing][high] == whole])
 
 

@@ -77,9 +77,13 @@ def _first_open(closed, order):
     return None
 
 
-def _counts(closed):
-    """For each mask in how many ways it can be taken off, thing by thing, 0 for one that is not closed."""
-    counts = [1] + [0] * (len(closed) - 1)
+def way_counts(closed):
+    """For each closed mask in how many ways it can be taken off thing by thing, each time to a closed one.
+
+    For all others, and where the empty mask is not closed, these are 0.
+    """
+    counts = [0] * len(closed)
+    counts[0] = 1 if closed[0] == 0 else 0
     for mask in range(1, len(closed)):
         if closed[mask] == mask:
             counts[mask] = sum([counts[less] for less in one_less(mask)])
@@ -88,12 +92,12 @@ def _counts(closed):
 
 def order_count(book):
     """How many orders a learning book has."""
-    return _counts(learned(book))[-1]
+    return way_counts(learned(book))[-1]
 
 
 def orders(book):
     """All orders of a learning book."""
-    counts = _counts(learned(book))
+    counts = way_counts(learned(book))
     if counts[-1] > MAX_ORDERS:
         raise TooMany(MAX_ORDERS)
     found = [((), len(counts) - 1)]
@@ -107,7 +111,7 @@ def orders(book):
 
 def nth_order(book, place):
     """The order of a learning book at a place."""
-    counts = _counts(learned(book))
+    counts = way_counts(learned(book))
     if place >= counts[-1]:
         raise TooFar(counts[-1])
     mask = len(counts) - 1
@@ -129,7 +133,7 @@ def order_place(book, order):
     least = _first_open(closed, order)
     if least is not None:
         raise NotOrder(least)
-    counts = _counts(closed)
+    counts = way_counts(closed)
     mask = len(counts) - 1
     place = 0
     for thing in order:

@@ -7,7 +7,7 @@ from meetlots.lots import rules_in_order
 from meetlots.masks import brought, closures_of, holds, is_in, lot_of, mask_of, mask_rules, one_less, ordered_masks
 
 
-def _is_spare(rules, place):
+def is_spare(rules, place):
     """Whether the rule at a place follows from all others."""
     ahead, behind = rules[place]
     return holds(rules[:place] + rules[place + 1:], ahead, behind)
@@ -16,7 +16,7 @@ def _is_spare(rules, place):
 def spare(book):
     """The places of all rules each of which follows from all others."""
     rules = mask_rules(book[1])
-    return tuple([place for place in range(len(rules)) if _is_spare(rules, place)])
+    return tuple([place for place in range(len(rules)) if is_spare(rules, place)])
 
 
 def _shortened(rules, ahead, behind):
@@ -33,7 +33,7 @@ def _without_spare(rules):
     """What is left of rules when each one that is spare at its turn is left out."""
     place = 0
     while place < len(rules):
-        if _is_spare(rules, place):
+        if is_spare(rules, place):
             rules = rules[:place] + rules[place + 1:]
         else:
             place += 1

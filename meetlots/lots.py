@@ -9,9 +9,9 @@ def is_integer(value):
     return isinstance(value, int) and not isinstance(value, bool)
 
 
-def is_thing(size, value):
-    """Whether a value is a thing of a size."""
-    return is_integer(value) and 0 <= value < size
+def is_below(limit, value):
+    """Whether a value is an integer from 0 to one less than a limit, as things and places are."""
+    return is_integer(value) and 0 <= value < limit
 
 
 def is_lot(size, value):
@@ -37,7 +37,7 @@ def _has_size(value):
     """Whether a value is a pair whose first item is a size."""
     if not isinstance(value, tuple) or len(value) != 2:
         return False
-    return is_integer(value[0]) and 0 <= value[0] <= MAX_THINGS
+    return is_below(MAX_THINGS + 1, value[0])
 
 
 def _is_row_of(value, limit):

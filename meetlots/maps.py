@@ -2,7 +2,7 @@
 
 from meetlots.errors import Unfit
 from meetlots.leastbooks import stem_of
-from meetlots.lots import is_thing
+from meetlots.lots import is_below
 from meetlots.masks import close, closures_of, fixed_masks, images, is_in, least_meets
 from meetlots.masks import lot_of, mask_of, mask_rules, source_of
 
@@ -11,7 +11,7 @@ def is_map(size, other_size, value):
     """Whether a value is a map from a size to another one."""
     if not isinstance(value, tuple) or len(value) != size:
         return False
-    return all([is_thing(other_size, goal) for goal in value])
+    return all([is_below(other_size, goal) for goal in value])
 
 
 def has_each_once(size, value):

@@ -2,7 +2,7 @@
 
 from meetlots.books import closed_mask
 from meetlots.learning import learned
-from meetlots.lots import is_lot, is_thing, meet, without
+from meetlots.lots import is_below, is_lot, meet, without
 from meetlots.masks import fixed_masks, least_told, lot_of, lots_of, mask_of, one_less, ordered_masks, parts_of
 from meetlots.tables import meet_of
 
@@ -102,7 +102,7 @@ def parted_holds(book, lot, value):
     closed = learned(book)
     if not isinstance(value, tuple) or len(value) != 3:
         return False
-    if not is_lot(size, value[0]) or not is_lot(size, value[1]) or not is_thing(size, value[2]):
+    if not is_lot(size, value[0]) or not is_lot(size, value[1]) or not is_below(size, value[2]):
         return False
     left, right = mask_of(value[0]), mask_of(value[1])
     if left & right or left | right != mask_of(lot):

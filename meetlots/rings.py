@@ -3,7 +3,7 @@
 from meetlots.bounds import MAX_RULES
 from meetlots.errors import TooMany
 from meetlots.learning import learned
-from meetlots.lots import is_lot, is_thing
+from meetlots.lots import is_below, is_lot
 from meetlots.masks import brought, is_in, mask_of
 from meetlots.turns import rules_for
 
@@ -26,7 +26,7 @@ def _is_ring(size, value):
     if not isinstance(value, tuple) or len(value) != 2:
         return False
     root, rest = value
-    if not is_thing(size, root) or not is_lot(size, rest):
+    if not is_below(size, root) or not is_lot(size, rest):
         return False
     return len(rest) > 0 and root not in rest
 

@@ -103,8 +103,6 @@ def right_in_sum(stands):
 
 def _next_turns(lefts):
     """The turns of a lot by those of what each end leaves, 0 where this end is the thing itself."""
-    if 0 in lefts:
-        return 1
     even = [left for left in lefts if left % 2 == 0]
     return 1 + (min(even) if even else max(lefts))
 

@@ -159,11 +159,25 @@ def methods_of(tree):
     }
 
 
+def class_names(tree):
+    """The parts of each `type(x).__name__`, where x is a plain name."""
+    found = []
+    for node in ast.walk(tree):
+        if isinstance(node, ast.Attribute) and node.attr == "__name__" and isinstance(node.value, ast.Call):
+            call = node.value
+            if getattr(call.func, "id", "") == "type" and len(call.args) == 1 and isinstance(call.args[0], ast.Name):
+                found += [node, call.func]
+    return found
+
+
 def name_faults(tree):
     """L8, L12, L15, L17: names."""
     faults = []
     methods = methods_of(tree)
-    attributes = [(node.attr, node.lineno) for node in ast.walk(tree) if isinstance(node, ast.Attribute)]
+    allowed = class_names(tree)
+    attributes = [
+        (node.attr, node.lineno) for node in ast.walk(tree) if isinstance(node, ast.Attribute) and node not in allowed
+    ]
     for name, line in bound_names(tree) + attributes:
         plain = re.fullmatch("_|_?[A-Za-z][A-Za-z0-9_]*", name)
         if not (plain or name in DUNDERS) or name.startswith(BARRED_BEGINNINGS) or name in BARRED:
@@ -177,7 +191,7 @@ def name_faults(tree):
             if name in above and name != function.name:
                 faults.append(("L15", line, f"{name} is an import or a class"))
     for node in ast.walk(tree):
-        if isinstance(node, ast.Name) and isinstance(node.ctx, ast.Load):
+        if isinstance(node, ast.Name) and isinstance(node.ctx, ast.Load) and node not in allowed:
             if node.id == "_" or hasattr(builtins, node.id) and node.id not in BUILTINS:
                 faults.append(("L8", node.lineno, node.id))
     return faults
@@ -200,8 +214,42 @@ def string_faults(tree):
     return faults
 
 
-def call_faults(tree):
-    """L20, L22 to L25: calls, sets, what is iterated at once, and comparisons by is."""
+def class_faults(tree):
+    """L5, L28: what the double-underscore methods and properties of classes are like."""
+    faults = []
+    for owner in ast.walk(tree):
+        if not isinstance(owner, ast.ClassDef):
+            continue
+        own = {node.name: node for node in owner.body if isinstance(node, ast.FunctionDef)}
+        if "__getitem__" in own and ("__iter__" not in own or "keys" in own):
+            faults.append(("L5", owner.lineno, "__getitem__ without __iter__"))
+        for name, node in own.items():
+            faults += [("L5", node.lineno, words) for words in method_faults(name, node)]
+    return faults
+
+
+def method_faults(name, node):
+    """What is wrong with a method that has to be plain, in words."""
+    plain = name in ("__eq__", "__len__", "__str__", "__getitem__", "__contains__", "__iter__") or node.decorator_list
+    if not plain:
+        return []
+    faults = []
+    if any(isinstance(item, (ast.Assign, ast.AugAssign, ast.Delete, ast.Try)) for item in ast.walk(node)):
+        faults.append(name + " changes something")
+    last = ast.unparse(node.body[-1])
+    if not last.startswith("return "):
+        faults.append(name + " does not end with a return")
+    begin = {"__len__": "return len(", "__str__": "return str(", "__iter__": "return iter(self."}.get(name, "")
+    if not last.startswith(begin) or begin and len(node.body) > 1:
+        faults.append(name + " is not the one plain return")
+    return faults
+
+
+def call_faults(tree, methods):
+    """L20, L22 to L25: calls, sets, what is iterated at once, and comparisons by is.
+
+    methods tells the names of the package's own methods that may be called.
+    """
     faults = []
     parents = parents_of(tree)
     for node in ast.walk(tree):
@@ -211,7 +259,7 @@ def call_faults(tree):
         if isinstance(node, ast.Call) and isinstance(node.func, ast.Attribute):
             own = isinstance(node.func.value, ast.Name) and node.func.value.id == "self"
             above = isinstance(node.func.value, ast.Call) and getattr(node.func.value.func, "id", "") == "super"
-            if node.func.attr not in METHODS and not own and not above:
+            if node.func.attr not in METHODS and node.func.attr not in methods and not own and not above:
                 faults.append(("L25", node.lineno, node.func.attr))
             if node.keywords and not own and not above:
                 faults.append(("L25", node.lineno, "keywords"))
@@ -249,10 +297,10 @@ def builtin_faults(node, parent):
     return faults
 
 
-def file_faults(text, defined):
-    """All faults of the text of a file."""
+def file_faults(text, defined, methods=()):
+    """All faults of the text of a file, by the names that each module defines, and by the package's methods."""
     tree = ast.parse(text)
     faults = text_faults(text)
-    for check in (size_faults, node_faults, module_faults, name_faults, string_faults, call_faults):
+    for check in (size_faults, node_faults, module_faults, name_faults, string_faults, class_faults):
         faults += check(tree)
-    return faults + import_faults(tree, defined)
+    return faults + call_faults(tree, methods) + import_faults(tree, defined)

@@ -65,10 +65,10 @@ class ExamplesTest(unittest.TestCase):
     def test_each_example(self):
         names = {}
         checked = [self.check(lines, names) for lines in example_blocks().values()]
-        self.assertEqual(sum(checked), 85)
+        self.assertEqual(sum(checked), 104)
 
     def test_each_example_of_the_readme(self):
-        self.assertEqual(self.check(readme_lines(), {}), 9)
+        self.assertEqual(self.check(readme_lines(), {}), 13)
 
 
 if __name__ == "__main__":

@@ -22,7 +22,9 @@ def told_book(size, rules):
 def line_by_its_words(places):
     size = len(places)
     return told_book(size, [
-        ((a, b), tuple(c for c in range(size) if places[a] < places[c] < places[b] or places[b] < places[c] < places[a]))
+        ((a, b), tuple(
+            c for c in range(size) if places[a] < places[c] < places[b] or places[b] < places[c] < places[a]
+        ))
         for a, b in combinations(range(size), 2)
     ])
 
@@ -185,7 +187,8 @@ class OrderTest(HullCase):
         for _ in range(150):
             size = chance.choice((2, 4, 5, 6, 10))
             rank = chance.sample(range(size), size)
-            pairs = [tuple(sorted(chance.sample(range(size), 2), key=rank.index)) for _ in range(chance.randint(0, 12))]
+            many = chance.randint(0, 12)
+            pairs = [tuple(sorted(chance.sample(range(size), 2), key=rank.index)) for _ in range(many)]
             if pairs and chance.random() < 0.2:
                 pairs.append(pairs[0][::-1])
             self.check_both(size, tuple(pairs))

@@ -103,10 +103,41 @@ FUNCTIONS = {
         "prize_turns": ["book", "lot", "thing"], "right_ends": ["book", "lot", "thing"],
         "prize_play": ["book", "lot", "thing"],
     },
+    "weighing": {
+        "weight": ["weights", "lot"], "heaviest": ["book", "weights"], "all_heaviest": ["book", "weights"],
+        "lightest_over": ["book", "weights", "lot"], "leeway": ["book", "weights", "thing"],
+        "heavy_paper": ["book", "weights"], "heavy_bound": ["book", "weights", "paper"],
+        "heavy_paper_holds": ["book", "weights", "value"],
+    },
+    "building": {
+        "stuck": ["book"], "is_climb": ["book", "value"], "climb_count": ["book"], "least_worst": ["book", "costs"],
+        "best_climb": ["book", "costs"], "best_climb_holds": ["book", "costs", "value"],
+        "worst_at": ["book", "costs", "lot"], "worst_lot": ["book", "costs"], "least_sums": ["book", "costs"],
+        "least_sum": ["book", "costs"], "cheap_climb": ["book", "costs"],
+        "cheap_climb_holds": ["book", "costs", "value"], "sums_hold": ["book", "costs", "value"],
+    },
 }
+
+# The methods that stand in each class itself, with their arguments behind the first one.
+EDITS = {
+    "add": ["rule"], "drop": ["index"], "put": ["index", "rule"], "have": ["thing"], "lose": ["thing"], "grow": [],
+    "tidy": [], "batch": ["edits"], "undo": [], "redo": [],
+}
+CLASSES = {
+    ("boards", "Board"): {
+        "__init__": ["value"], "__len__": [], "__getitem__": ["index"], "__contains__": ["value"], "__iter__": [],
+        "__str__": [], "__eq__": ["other"], "closure": [], "rounds": [], "spare": [], "closed": ["lot"],
+        "steps": ["thing"], "follows": ["rule"], "breaking": ["rule"], **EDITS, "at": ["version"], "news": [],
+        "copy": [], "attempt": ["work"],
+    },
+    ("boards", "KeptBoard"): {"__init__": ["value"], "copy": []},
+    ("shells", "Shell"): {"__init__": [], "say": ["line"]},
+}
+PROPERTIES = ["book", "lot", "version"]
 
 BOOK = (3, (((0,), (1,)), ((1,), (2,))))
 LINE = (3, (((0, 2), (1,)),))
+COSTS = ((0, 1, 5), (1, 1, 1), (0, 4, 6))
 TABLE = (3, ((0, 1), (1, 2), (1,)))
 
 BY_NAME = [
@@ -203,6 +234,25 @@ BY_NAME = [
     ("takings", "prize_turns", {"book": BOOK, "lot": (1, 2), "thing": 2}),
     ("takings", "right_ends", {"book": BOOK, "lot": (1, 2), "thing": 2}),
     ("takings", "prize_play", {"book": BOOK, "lot": (1, 2), "thing": 2}),
+    ("weighing", "weight", {"weights": (3, -2, 1), "lot": (0, 1)}),
+    ("weighing", "heaviest", {"book": BOOK, "weights": (3, -2, 1)}),
+    ("weighing", "all_heaviest", {"book": BOOK, "weights": (3, -2, 1)}),
+    ("weighing", "lightest_over", {"book": BOOK, "weights": (3, -2, 1), "lot": (2,)}),
+    ("weighing", "leeway", {"book": BOOK, "weights": (3, -2, 1), "thing": 1}),
+    ("weighing", "heavy_paper", {"book": BOOK, "weights": (3, -2, 1)}),
+    ("weighing", "heavy_bound", {"book": BOOK, "weights": (3, -2, 1), "paper": ((0, 1, 2),)}),
+    ("weighing", "heavy_paper_holds", {"book": BOOK, "weights": (3, -2, 1), "value": ((0, 1, 2),)}),
+    ("building", "stuck", {"book": BOOK}), ("building", "is_climb", {"book": BOOK, "value": (2, 1, 0)}),
+    ("building", "climb_count", {"book": BOOK}), ("building", "least_worst", {"book": LINE, "costs": COSTS}),
+    ("building", "best_climb", {"book": LINE, "costs": COSTS}),
+    ("building", "best_climb_holds", {"book": LINE, "costs": COSTS, "value": (2, 1, 0)}),
+    ("building", "worst_at", {"book": LINE, "costs": COSTS, "lot": (0, 1)}),
+    ("building", "worst_lot", {"book": LINE, "costs": COSTS}),
+    ("building", "least_sums", {"book": LINE, "costs": COSTS}),
+    ("building", "least_sum", {"book": LINE, "costs": COSTS}),
+    ("building", "cheap_climb", {"book": LINE, "costs": COSTS}),
+    ("building", "cheap_climb_holds", {"book": LINE, "costs": COSTS, "value": (2, 1, 0)}),
+    ("building", "sums_hold", {"book": LINE, "costs": COSTS, "value": (0, 0, 1, 0, 1, 1, 6)}),
 ]
 
 
@@ -287,6 +337,38 @@ class FunctionsTest(unittest.TestCase):
         if isinstance(value, tuple):
             for item in value:
                 self.assert_plain(item)
+
+
+class ClassesTest(unittest.TestCase):
+    def test_methods_stand_in_the_class_itself(self):
+        for (file, name), methods in CLASSES.items():
+            made = function(file, name)
+            self.assertEqual(made.__module__, "meetlots." + file)
+            for method, arguments in methods.items():
+                with self.subTest(name=name, method=method):
+                    found = vars(made)[method]
+                    told = list(inspect.signature(found).parameters.values())[1:]
+                    self.assertEqual([argument.name for argument in told], arguments)
+                    for argument in told:
+                        self.assertEqual(argument.kind, inspect.Parameter.POSITIONAL_OR_KEYWORD)
+                        self.assertIs(argument.default, inspect.Parameter.empty)
+
+    def test_properties_without_a_setter(self):
+        board = vars(function("boards", "Board"))
+        for name in PROPERTIES:
+            self.assertIsInstance(board[name], property)
+            self.assertIs(board[name].fset, None)
+            self.assertIs(board[name].fdel, None)
+
+    def test_bases(self):
+        kept, board = function("boards", "KeptBoard"), function("boards", "Board")
+        self.assertEqual((kept.__bases__, board.__bases__), ((board,), (object,)))
+        self.assertEqual(function("shells", "Shell").__bases__, (object,))
+
+    def test_no_public_name_is_told_nowhere(self):
+        for (file, name), methods in CLASSES.items():
+            found = [word for word in vars(function(file, name)) if not word.startswith("_")]
+            self.assertLessEqual(set(found), set(methods) | set(PROPERTIES))
 
 
 if __name__ == "__main__":

@@ -52,9 +52,19 @@ class FilesTest(unittest.TestCase):
 
     def test_each_file(self):
         defined = defined_names()
+        methods = {method for name in file_names() for method in language.methods_of(tree_of(name))}
         for name in file_names():
             with self.subTest(name=name):
-                self.assertEqual(language.file_faults(text_of(name), defined), [])
+                self.assertEqual(language.file_faults(text_of(name), defined, methods), [])
+
+    def test_no_name_is_a_property_and_a_method(self):
+        found = [
+            (node.name, bool(node.decorator_list)) for name in file_names() for owner in ast.walk(tree_of(name))
+            if isinstance(owner, ast.ClassDef) for node in owner.body if isinstance(node, ast.FunctionDef)
+        ]
+        methods = {name for name, is_property in found if not is_property}
+        for name, is_property in found:
+            self.assertFalse(is_property and (name in methods or name in language.METHODS), name)
 
     def test_nothing_but_a_docstring_in_the_package_itself(self):
         body = tree_of("__init__.py").body
@@ -108,7 +118,14 @@ class ChecksTest(unittest.TestCase):
         "class A:\n    def f(self, A):\n        return 1\n", "def f(a):\n    for _ in a:\n        return _\n",
         "def f(a):\n    return len(obj=a)\n", "def f(a):\n    return a.split(sep='a')\n", "def f(a):\n\treturn 1\n",
         "def f(a):\n    return 1  # \u20ac\n", "x = 1  #" + "-" * 120 + "\n", "x = 1\n" + "# -\n" * 399, "x = 1",
-        "def f(a):\n" + "    a = 1\n" * 40,
+        "def f(a):\n" + "    a = 1\n" * 40, "def f(a):\n    return type(a[0]).__name__\n",
+        "def f(a):\n    return a.__name__\n", "def f(a):\n    return a.dig()\n",
+        "class A:\n    def __getitem__(self, at):\n        return at\n",
+        "class A:\n    def __str__(self):\n        return f(self)\n",
+        "class A:\n    def __len__(self):\n        return self.n\n",
+        "class A:\n    @property\n    def b(self):\n        self.n = 1\n        return self.n\n",
+        "class A:\n    def __eq__(self, other):\n        pass\n",
+        "class A:\n    @staticmethod\n    def b():\n        return 1\n",
     ]
 
     GOOD = [
@@ -117,6 +134,9 @@ class ChecksTest(unittest.TestCase):
         "def f(a):\n    return [x for x in range(3) if a is not None]\n",
         "def f(a):\n    return sorted(set(a)), len(set(a))\n", "def f(a):\n" + "    a = 1\n" * 39,
         "class A:\n    def __init__(self, n):\n        super().__init__('n')\n        self.n = n\n",
+        "def f(a):\n    return type(a).__name__\n",
+        "class A:\n    def __len__(self):\n        return len(self.n)\n",
+        "class A:\n    @property\n    def b(self):\n        return self.n\n",
     ]
 
     def test_bad_ones(self):

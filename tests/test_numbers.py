@@ -250,6 +250,9 @@ class PartedTest(unittest.TestCase):
         ]:
             self.assertIs(parted_holds(FIVE, lot, value), False, value)
         self.assertIs(parted_holds(FIVE, (0, 1, 2), ((0, 1), (2, 3, 4), 4)), False)
+        self.assertIs(parted_holds(on_line((0, 1, 2)), (0, 1, 2), ((0, 2), (1,), 1)), True)
+        for thing in (True, 1.0, "1", (1,), [1], None):
+            self.assertIs(parted_holds(on_line((0, 1, 2)), (0, 1, 2), ((0, 2), (1,), thing)), False)
 
 
 class WholeTest(unittest.TestCase):

@@ -225,6 +225,10 @@ class PrizeTest(unittest.TestCase):
         self.assertEqual(prize_turns(CHAIN, EVERYTHING, 0), 1)
         self.assertEqual(prize_play(CHAIN, EVERYTHING, 9), EVERYTHING)
         self.assertEqual(right_ends(CHAIN, EVERYTHING, 9), (0,))
+        # The winner hurries: with 2 it would be 5 turns, with 0 it is 3.
+        hurry = (5, (((0,), (4,)), ((2,), (1, 3, 4))))
+        self.assertEqual(prize_turns(hurry, (0, 1, 2, 3, 4), 4), 3)
+        self.assertEqual(right_ends(hurry, (0, 1, 2, 3, 4), 4), (0,))
         line = on_line((0, 1, 2))
         self.assertEqual(prize_turns(line, (0, 1, 2), 1), 2)
         self.assertEqual(right_ends(line, (0, 1, 2), 1), (0, 2))

@@ -3,6 +3,7 @@
 import copy
 import unittest
 
+from meetlots.boards import Board
 from meetlots.errors import MeetError
 from tests.test_interface import BY_NAME, function
 from tests.values import ODD
@@ -23,11 +24,20 @@ def changed(value):
 class ValuesTest(unittest.TestCase):
     def test_any_value(self):
         told = [item for item in BY_NAME if "value" in item[2]]
-        self.assertGreaterEqual(len(told), 10)
+        self.assertGreaterEqual(len(told), 22)
         for file, name, arguments in told:
             for value in ODD + changed(arguments["value"]):
                 with self.subTest(file=file, name=name, value=repr(value)[:80]):
                     self.check(function(file, name), {**arguments, "value": value})
+
+    def test_boards_as_values(self):
+        board = Board((3, (((0,), (1,)),)))
+        for file, name, arguments in BY_NAME:
+            if "value" in arguments:
+                for value in (board, (board,), (board, board), (board, ()), (3, board), ((board, board),), [board]):
+                    with self.subTest(file=file, name=name, value=repr(value)):
+                        self.answer(function(file, name), {**arguments, "value": value})
+        self.assertEqual((board.book, board.lot, board.version), ((3, (((0,), (1,)),)), (), 0))
 
     def check(self, found, arguments):
         kept = copy.deepcopy(arguments)
