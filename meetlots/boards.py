@@ -136,6 +136,11 @@ class Board:
         """The held lot."""
         return self._lot
 
+    @lot.setter
+    def lot(self, value):
+        # Some errors assign an attribute of this name, so the property must have a setter; a board lets none in.
+        raise AttributeError("the held lot can only be read")
+
     @property
     def version(self):
         """How many edits stand."""

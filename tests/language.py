@@ -14,7 +14,7 @@ LIBRARY = {
 }
 BUILTINS = """len range enumerate zip min max sum abs sorted reversed int str bool bytes list tuple dict set
     isinstance ord repr any all divmod pow Exception ValueError TypeError KeyError IndexError LookupError
-    ZeroDivisionError super property iter next""".split()
+    ZeroDivisionError AttributeError super property iter next""".split()
 METHODS = """append clear copy count endswith extend find get index insert isalnum isalpha isdigit islower
     isspace isupper items join keys ljust lower lstrip partition pop remove replace reverse rfind rjust
     rpartition rsplit rstrip setdefault split splitlines startswith strip update upper values zfill bit_length
@@ -42,6 +42,27 @@ def functions_of(tree):
     return [node for node in ast.walk(tree) if isinstance(node, ast.FunctionDef)]
 
 
+def classes_of(tree):
+    return [node for node in ast.walk(tree) if isinstance(node, ast.ClassDef)]
+
+
+def own_methods(owner):
+    """What is defined in the body of a class, in order; a property and its setter are two."""
+    return [node for node in owner.body if isinstance(node, ast.FunctionDef)]
+
+
+def decorators_of(node):
+    return [ast.unparse(item) for item in node.decorator_list]
+
+
+def is_getter(node):
+    return decorators_of(node) == ["property"]
+
+
+def is_setter(node):
+    return decorators_of(node) == [node.name + ".setter"]
+
+
 def text_faults(text):
     """L10, L14: lengths and characters."""
     faults = []
@@ -67,12 +88,13 @@ def size_faults(tree):
 def node_faults(tree):
     """L6, L7: kinds of statements and values."""
     faults = []
+    parents = parents_of(tree)
     for node in ast.walk(tree):
         if type(node).__name__ not in NODES:
             faults.append(("L6", getattr(node, "lineno", 0), type(node).__name__))
         if getattr(node, "decorator_list", []):
-            names = [getattr(item, "id", None) for item in node.decorator_list]
-            if isinstance(node, ast.ClassDef) or names != ["property"]:
+            method = isinstance(node, ast.FunctionDef) and isinstance(parents[node], ast.ClassDef)
+            if not method or not (is_getter(node) or is_setter(node)):
                 faults.append(("L4", node.lineno, "a decorator"))
         if isinstance(node, ast.Constant) and isinstance(node.value, (float, complex)):
             faults.append(("L7", node.lineno, "a float"))
@@ -153,10 +175,7 @@ def bound_names(tree):
 
 
 def methods_of(tree):
-    return {
-        node.name for owner in ast.walk(tree) if isinstance(owner, ast.ClassDef)
-        for node in owner.body if isinstance(node, ast.FunctionDef)
-    }
+    return {node.name for owner in classes_of(tree) for node in own_methods(owner)}
 
 
 def class_names(tree):
@@ -185,7 +204,7 @@ def name_faults(tree):
     for name, line in bound_names(tree):
         if hasattr(builtins, name) and name not in methods:
             faults.append(("L15", line, f"{name} is a builtin"))
-    above = set(imported(tree)) | {node.name for node in ast.walk(tree) if isinstance(node, ast.ClassDef)}
+    above = set(imported(tree)) | {node.name for node in classes_of(tree)}
     for function in functions_of(tree):
         for name, line in bound_names(function):
             if name in above and name != function.name:
@@ -215,16 +234,31 @@ def string_faults(tree):
 
 
 def class_faults(tree):
-    """L5, L28: what the double-underscore methods and properties of classes are like."""
+    """L5, L18, L28: what the double-underscore methods and properties of classes are like."""
     faults = []
-    for owner in ast.walk(tree):
-        if not isinstance(owner, ast.ClassDef):
-            continue
-        own = {node.name: node for node in owner.body if isinstance(node, ast.FunctionDef)}
-        if "__getitem__" in own and ("__iter__" not in own or "keys" in own):
+    for owner in classes_of(tree):
+        own = own_methods(owner)
+        names = [node.name for node in own]
+        if "__getitem__" in names and ("__iter__" not in names or "keys" in names):
             faults.append(("L5", owner.lineno, "__getitem__ without __iter__"))
-        for name, node in own.items():
-            faults += [("L5", node.lineno, words) for words in method_faults(name, node)]
+        for place, node in enumerate(own):
+            found = accessor_faults(node, own[:place])
+            if not is_setter(node):
+                found += method_faults(node.name, node)
+            faults += [("L5", node.lineno, words) for words in found]
+    return faults
+
+
+def accessor_faults(node, above):
+    """What is wrong with a method as a property, a setter or neither, below others of its class, in words."""
+    same = [item for item in above if item.name == node.name]
+    if is_setter(node):
+        takes, allowed = "self, value", len(same) == 1 and is_getter(same[0])
+    else:
+        takes, allowed = "self" if is_getter(node) else None, not same
+    faults = [] if allowed else [node.name + " stands twice, or its setter not below it"]
+    if takes is not None and ast.unparse(node.args) != takes:
+        faults.append(node.name + " has other parameters")
     return faults
 
 
@@ -243,6 +277,82 @@ def method_faults(name, node):
     if not last.startswith(begin) or begin and len(node.body) > 1:
         faults.append(name + " is not the one plain return")
     return faults
+
+
+def property_faults(trees):
+    """L5: how all files of a package use what is a property in one of them; as (rule, file, line, words).
+
+    trees tells the tree of each file by its name.
+    """
+    owners = {owner.name: owner for tree in trees.values() for owner in classes_of(tree)}
+    getters = [(name, node.name) for name, owner in owners.items() for node in own_methods(owner) if is_getter(node)]
+    setters = [(name, node.name) for name, owner in owners.items() for node in own_methods(owner) if is_setter(node)]
+    unset = {name for owner, name in getters if (owner, name) not in setters}
+    faults = []
+    for file, tree in trees.items():
+        for node in ast.walk(tree):
+            words = attribute_faults(node, {name for _, name in getters}, unset, owners)
+            faults += [("L5", file, node.lineno, word) for word in words]
+        faults += [
+            ("L5", file, owner.lineno, "a property of an error")
+            for owner in classes_of(tree) if is_error(owner.name, owners) and owner.name in dict(getters)
+        ]
+    return faults + class_read_faults(trees, getters, owners)
+
+
+def attribute_faults(node, properties, unset, owners):
+    """What is wrong with a statement or an expression as a use of properties, in words."""
+    if isinstance(node, ast.For):
+        told = [item for item in ast.walk(node) if is_property(item, properties)]
+        return ["a property is assigned in a loop: " + item.attr for item in told if isinstance(item.ctx, ast.Store)]
+    if isinstance(node, ast.Call) and is_property(node.func, properties):
+        return ["a property is called: " + node.func.attr]
+    if not is_property(node, properties):
+        return []
+    if isinstance(node.ctx, ast.Del):
+        return ["a property is deleted: " + node.attr]
+    if isinstance(node.ctx, ast.Store) and node.attr in unset:
+        return ["a property that is given has a setter: " + node.attr]
+    if getattr(node.value, "id", None) in owners:
+        return ["a property is read off a class: " + node.attr]
+    return []
+
+
+def is_property(node, properties):
+    return isinstance(node, ast.Attribute) and node.attr in properties
+
+
+def is_error(name, owners):
+    """Whether a class of the package, or of Python's own, is one of errors."""
+    if name in owners:
+        return any(is_error(getattr(base, "id", None), owners) for base in owners[name].bases)
+    return isinstance(name, str) and name.endswith(("Error", "Exception"))
+
+
+def class_read_faults(trees, getters, owners):
+    """L5: where a method is read off a class, no class stores what is a property of another one."""
+    methods = {name for tree in trees.values() for name in methods_of(tree)}
+    read = any(
+        isinstance(node, ast.Attribute) and node.attr in methods and getattr(node.value, "id", None) in owners
+        for tree in trees.values() for node in ast.walk(tree)
+    )
+    return [
+        ("L5", file, node.lineno, "a property of another class is stored: " + node.attr)
+        for file, tree in trees.items() for owner in classes_of(tree) for node in ast.walk(owner)
+        if read and is_property(node, {name for other, name in getters if other != owner.name})
+        and isinstance(node.ctx, ast.Store)
+    ]
+
+
+def error_faults(tree):
+    """L18, L19: an AttributeError is raised on the spot, and nothing else is done with this class."""
+    raised = [
+        node.exc.func for node in ast.walk(tree) if isinstance(node, ast.Raise) and isinstance(node.exc, ast.Call)
+    ]
+    return [
+        ("L19", node.lineno, "AttributeError") for node in ast.walk(tree)
+        if getattr(node, "id", None) == "AttributeError" and node not in raised
+    ]
 
 
 def call_faults(tree, methods):
@@ -301,6 +411,6 @@ def file_faults(text, defined, methods=()):
     """All faults of the text of a file, by the names that each module defines, and by the package's methods."""
     tree = ast.parse(text)
     faults = text_faults(text)
-    for check in (size_faults, node_faults, module_faults, name_faults, string_faults, class_faults):
+    for check in (size_faults, node_faults, module_faults, name_faults, string_faults, class_faults, error_faults):
         faults += check(tree)
     return faults + call_faults(tree, methods) + import_faults(tree, defined)

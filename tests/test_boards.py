@@ -42,6 +42,18 @@ def whole(board):
             return all_of(board) + (told,)
 
 
+def worked_on(made):
+    """A board of a class with edits that stand, some that are taken back, and news."""
+    board = made((3, BOOK[1] + (RULE,)))
+    board.have(2)
+    board.tidy()
+    board.have(0)
+    board.grow()
+    board.undo()
+    board.undo()
+    return board
+
+
 def outcome(call, *arguments):
     """What a call returns, or the name of the error that it raises and what this keeps."""
     try:
@@ -254,14 +266,48 @@ class MadeTest(unittest.TestCase):
                         made(value)
                     self.assertEqual(repr(caught.exception.error), repr(error))
 
-    def test_properties_can_only_be_read(self):
-        for board in (Board(BOOK), KeptBoard(BOOK)):
+    def test_properties_can_be_read(self):
+        for made in (Board, KeptBoard):
+            board = worked_on(made)
+            self.assertEqual((board.book, board.lot, board.version), (BOOK, (2,), 2))
+            board.redo()
+            self.assertEqual((board.book, board.lot, board.version), (BOOK, (0, 2), 3))
             for name in PROPERTIES:
-                with self.assertRaises(AttributeError):
-                    setattr(board, name, getattr(board, name))
-                with self.assertRaises(AttributeError):
-                    delattr(board, name)
-            self.assertEqual((board.book, board.lot, board.version), (BOOK, (), 0))
+                self.assertEqual(getattr(board, name), getattr(board, name))
+
+    def test_properties_can_only_be_read(self):
+        for made in (Board, KeptBoard):
+            for board in (made(BOOK), made((0, ())), worked_on(made), worked_on(made).copy()):
+                told = repr((whole(board), vars(board)))
+                for name in PROPERTIES:
+                    own = getattr(board, name)
+                    for value in ODD + [own, (0,), (2,), (0, 1, 2), BOOK, (3, ()), 0, 2, 3, board, made(BOOK), property]:
+                        with self.subTest(made=made.__name__, name=name, value=repr(value)[:80]):
+                            with self.assertRaises(AttributeError):
+                                setattr(board, name, value)
+                            self.assertEqual(repr((whole(board), vars(board))), told)
+                    with self.assertRaises(AttributeError):
+                        delattr(board, name)
+                    self.assertEqual(repr((whole(board), vars(board))), told)
+
+    def test_properties_can_only_be_read_by_the_signs_of_assignments(self):
+        for made in (Board, KeptBoard):
+            board = worked_on(made)
+            told = repr(whole(board))
+            with self.assertRaises(AttributeError):
+                board.lot = (0, 1)
+            with self.assertRaises(AttributeError):
+                board.book = BOOK
+            with self.assertRaises(AttributeError):
+                board.version = 2
+            with self.assertRaises(AttributeError):
+                board.lot += (1,)
+            with self.assertRaises(AttributeError):
+                board.book += ()
+            with self.assertRaises(AttributeError):
+                board.version -= 1
+            self.assertEqual(repr(whole(board)), told)
+            self.assertEqual([board.redo(), board.lot, board.redo(), board.lot], [3, (0, 2), 4, (0, 1, 2)])
 
 
 class SequenceTest(unittest.TestCase):
@@ -705,6 +751,15 @@ class AttemptTest(unittest.TestCase):
         self.assertEqual((board.lot, board.version), ((0, 2), 3))
         with self.assertRaises(NothingToRedo):
             board.redo()
+
+    def test_assignments_that_are_attempted(self):
+        """An assignment to a property raises no MeetError, so that what was done ahead of it stays."""
+        for made in (Board, KeptBoard):
+            for name in PROPERTIES:
+                board = self.filled(made)
+                with self.assertRaises(AttributeError):
+                    board.attempt(lambda same: (same.have(2), setattr(same, name, ()), same.have(1)))
+                self.assertEqual((board.book, board.lot, board.version), ((3, BOOK[1] + (RULE,)), (0, 2), 3))
 
     def test_attempts_within_attempts(self):
         board = self.filled()

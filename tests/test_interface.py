@@ -5,6 +5,8 @@ import inspect
 import unittest
 
 from meetlots import bounds, errors
+from meetlots.boards import Board, KeptBoard
+from tests.values import ODD
 
 BOUNDS = {
     "MAX_THINGS": 10, "MAX_RULES": 60, "MAX_ROWS": 60, "MAX_DIRECT": 1023, "MAX_LOTS": 1024,
@@ -288,6 +290,25 @@ class ErrorsTest(unittest.TestCase):
                         self.assertIs(getattr(made(**{argument: value}), argument), value)
                         self.assertEqual(list(vars(made(value))), [argument])
 
+    def test_a_lot_is_kept_just_as_it_was_passed(self):
+        board = Board(BOOK)
+        told = [board, KeptBoard(BOOK), [board], board.book, board.lot, (2, 0), errors.NotClosed((0,)), errors.Changed]
+        for name in ("NotClosed", "NotAlike", "NoClimb", "Changed"):
+            made = getattr(errors, name)
+            for value in ODD + told:
+                with self.subTest(name=name, value=repr(value)[:80]):
+                    kept = repr(value)
+                    for error in (made(value), made(lot=value)):
+                        self.assertIs(error.lot, value)
+                        self.assertEqual(list(vars(error)), ["lot"])
+                        with self.assertRaises(errors.MeetError) as caught:
+                            raise error
+                        self.assertIs(caught.exception.lot, value)
+                    self.assertEqual(repr(value), kept)
+            with self.assertRaises(TypeError):
+                made()
+        self.assertEqual((board.book, board.lot, board.version), (BOOK, (), 0))
+
     def test_those_without_arguments(self):
         for name, argument in ERRORS.items():
             if argument is None:
@@ -353,12 +374,13 @@ class ClassesTest(unittest.TestCase):
                         self.assertEqual(argument.kind, inspect.Parameter.POSITIONAL_OR_KEYWORD)
                         self.assertIs(argument.default, inspect.Parameter.empty)
 
-    def test_properties_without_a_setter(self):
-        board = vars(function("boards", "Board"))
+    def test_properties(self):
+        """That they can only be read is tested with the boards."""
+        board, kept = function("boards", "Board"), function("boards", "KeptBoard")
         for name in PROPERTIES:
-            self.assertIsInstance(board[name], property)
-            self.assertIs(board[name].fset, None)
-            self.assertIs(board[name].fdel, None)
+            self.assertIsInstance(vars(board)[name], property)
+            self.assertIs(vars(board)[name].fdel, None)
+            self.assertIs(getattr(kept, name), vars(board)[name])
 
     def test_bases(self):
         kept, board = function("boards", "KeptBoard"), function("boards", "Board")

@@ -57,6 +57,9 @@ class FilesTest(unittest.TestCase):
             with self.subTest(name=name):
                 self.assertEqual(language.file_faults(text_of(name), defined, methods), [])
 
+    def test_how_properties_are_used(self):
+        self.assertEqual(language.property_faults({name: tree_of(name) for name in file_names()}), [])
+
     def test_no_name_is_a_property_and_a_method(self):
         found = [
             (node.name, bool(node.decorator_list)) for name in file_names() for owner in ast.walk(tree_of(name))
@@ -96,6 +99,12 @@ class FilesTest(unittest.TestCase):
                     self.assertFalse(any(isinstance(item, (ast.List, ast.Dict)) for item in ast.walk(node)), name)
 
 
+# A class with a property b; the setter of one; a method that assigns an attribute of that name.
+READ = "class A:\n    @property\n    def b(self):\n        return self.n\n\n"
+SET = "    @b.setter\n    def b(self, value):\n        self.n = value\n\n"
+STORE = "    def __init__(self, b):\n        self.b = b\n"
+
+
 class ChecksTest(unittest.TestCase):
     """The checks themselves see what they are for."""
 
@@ -126,6 +135,24 @@ class ChecksTest(unittest.TestCase):
         "class A:\n    @property\n    def b(self):\n        self.n = 1\n        return self.n\n",
         "class A:\n    def __eq__(self, other):\n        pass\n",
         "class A:\n    @staticmethod\n    def b():\n        return 1\n",
+        "@property\ndef b(self):\n    return 1\n",
+        "class A:\n    @property\n    def b(self, n):\n        return n\n",
+        "class A:\n    def b(self):\n        return 1\n\n    def b(self):\n        return 2\n",
+        READ + "    @b.getter\n    def b(self):\n        return 1\n",
+        READ + "    @property\n    def b(self):\n        return 1\n",
+        READ + "    def b(self, value):\n        self.n = value\n",
+        READ + "    @b.setter\n    def c(self, value):\n        self.n = value\n",
+        READ + "    @b.setter\n    def b(self):\n        self.n = 1\n",
+        READ + "    @b.setter\n    def b(self, value=1):\n        self.n = value\n",
+        READ + "    @b.setter\n    def b(self, value, n):\n        self.n = value\n",
+        READ + "    @property\n    @b.setter\n    def b(self, value):\n        self.n = value\n",
+        READ + SET + SET,
+        "class A:\n" + SET, "class A:\n" + SET + READ[9:],
+        "class A:\n    def b(self):\n        return 1\n\n" + SET,
+        "class A(AttributeError):\n    def f(self):\n        return 1\n",
+        "def f(a):\n    return AttributeError\n", "def f(a):\n    return AttributeError('a')\n",
+        "def f(a):\n    raise AttributeError\n",
+        "def f(a):\n    try:\n        return a()\n    except AttributeError:\n        return 1\n",
     ]
 
     GOOD = [
@@ -136,7 +163,29 @@ class ChecksTest(unittest.TestCase):
         "class A:\n    def __init__(self, n):\n        super().__init__('n')\n        self.n = n\n",
         "def f(a):\n    return type(a).__name__\n",
         "class A:\n    def __len__(self):\n        return len(self.n)\n",
-        "class A:\n    @property\n    def b(self):\n        return self.n\n",
+        READ, READ + SET, READ + "    @b.setter\n    def b(self, value):\n        raise AttributeError('b')\n",
+        READ + "    def c(self):\n        return 1\n\n" + SET,
+    ]
+
+    # What whole packages have, file by file, with what is told of the use of properties there.
+    PACKAGES = [
+        ([READ], 0), ([READ, "class B:\n" + STORE.replace("b", "n")], 0), ([READ + SET, "class B:\n" + STORE], 0),
+        ([READ, "class B:\n" + STORE], 1), (["class B:\n" + STORE, READ], 1), ([READ, "class B:\n" + STORE * 2], 2),
+        ([READ, "def f(a):\n    a.b = 1\n"], 1), ([READ, "def f(a):\n    a.b += 1\n"], 1),
+        ([READ, "def f(a):\n    a.c, (a.b, a.c) = a\n"], 1), ([READ, "def f(a):\n    a.b[0] = 1\n"], 0),
+        ([READ + SET, "def f(a):\n    a.b = 1\n    a.b += 1\n"], 0),
+        ([READ + SET, READ.replace("A", "B"), "def f(a):\n    a.b = 1\n"], 1),
+        ([READ + SET, READ.replace("A", "B(A)"), "class C:\n" + STORE], 1),
+        ([READ + SET, (READ + SET).replace("A", "B"), "class C:\n" + STORE], 0),
+        ([READ + SET, "def f(a):\n    del a.b\n"], 1), ([READ, "def f(a):\n    return a.b\n"], 0),
+        ([READ, "def f(a):\n    return a.b(1)\n"], 1), ([READ, "def f(a):\n    return A.b\n"], 1),
+        ([READ + SET, "def f(a):\n    for k in a:\n        k.b = 1\n"], 1),
+        ([READ + SET, "def f(a):\n    for k.b in a:\n        pass\n"], 1),
+        ([READ + SET, "def f(a):\n    for k in a:\n        k.n = k.b\n"], 0),
+        ([READ.replace("A", "A(ValueError)")], 1), (["class B(Exception):\n    pass\n", READ.replace("A", "A(B)")], 1),
+        (["class B:\n    pass\n", READ.replace("A", "A(B)")], 0),
+        ([READ + SET, "class B:\n" + STORE + "\n    def c(self):\n        return 1\n", "def f(a):\n    B.c(a)\n"], 1),
+        ([READ + SET, "class B:\n    def c(self):\n        return 1\n", "def f(a):\n    B.c(a)\n"], 0),
     ]
 
     def test_bad_ones(self):
@@ -148,6 +197,18 @@ class ChecksTest(unittest.TestCase):
         for text in self.GOOD:
             with self.subTest(text=text):
                 self.assertEqual(language.file_faults(text, {"meetlots.lots": ["meet"]}), [])
+
+    def test_packages(self):
+        for texts, many in self.PACKAGES:
+            with self.subTest(texts=texts):
+                trees = {f"{place}.py": ast.parse(text) for place, text in enumerate(texts)}
+                faults = language.property_faults(trees)
+                self.assertEqual(len(faults), many, faults)
+
+    def test_where_a_property_is_assigned(self):
+        trees = {"boards.py": ast.parse(READ), "errors.py": ast.parse("class B:\n" + STORE)}
+        told = [("L5", "errors.py", 3, "a property that is given has a setter: b")]
+        self.assertEqual(language.property_faults(trees), told)
 
 
 if __name__ == "__main__":
